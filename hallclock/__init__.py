@@ -1,0 +1,1 @@
+"""Hallclock: halls of waiting, run by a clock of events."""
