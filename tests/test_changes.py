@@ -72,8 +72,8 @@ class NeedChangeTest(unittest.TestCase):
 
     def test_true_is_no_number(self):
         for change in (
-            ("hands", "till", True), ("takes", "till", (True,)), ("takes", "till", (1, True)), ("opens", "o", True, True),
-            ("opens", "o", 5, True), ("opens", "o", True, 1), ("below", "b", True), ("holds", "cart", True),
+            ("hands", "till", True), ("takes", "till", (True,)), ("takes", "till", (1, True)),
+            ("opens", "o", True, True), ("opens", "o", 5, True), ("opens", "o", True, 1), ("below", "b", True), ("holds", "cart", True),
         ):
             self.refused(change)
 
@@ -91,7 +91,8 @@ class NeedChangeTest(unittest.TestCase):
             ("by", "f", "most"), ("by", "f", ""), ("by", "f", "turn"), ("by", "f", "opens"), ("hand", "till", 1),
             ("rests", "till", ((1, 2),)), ("ranked", "till", True), ("pool", "cart", 5), ("then", "walk", "out"),
             ("below", "o", 5, 2), ("hands", "o", 5, 2), ("", "o", 5, 2), ("opens", "o", 5), ("below", "o", 5),
-            ("takes", "walk", 3), ("takes", "walk", (3,)), ("rank", "a", 3), ("below", "b", 3, "till"), ("", "f", "turns"),
+            ("takes", "walk", 3), ("takes", "walk", (3,)), ("rank", "a", 3), ("below", "b", 3, "till"),
+            ("", "f", "turns"),
         ):
             self.refused(change)
 

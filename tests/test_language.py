@@ -121,6 +121,97 @@ class LanguageTest(unittest.TestCase):
             if isinstance(node, ast.Attribute):
                 self.assertTrue(node.attr in methods | values or node.attr in OWN_METHODS, f"{place} {node.attr}")
 
+    def test_the_top_of_a_file_holds_plain_things(self):
+        plain = (ast.Constant, ast.Tuple, ast.List, ast.Dict, ast.Load, ast.UnaryOp, ast.USub)
+        for file, tree in self.trees.items():
+            bound = []
+            for part in tree.body:
+                place = f"{file.name}:{part.lineno}"
+                if isinstance(part, ast.Assign):
+                    bound.append(part.targets[0].id)
+                    for node in ast.walk(part.value):
+                        self.assertIsInstance(node, plain, place)
+                elif isinstance(part, (ast.FunctionDef, ast.ClassDef)):
+                    bound.append(part.name)
+                elif isinstance(part, ast.ImportFrom):
+                    bound.extend(name.asname or name.name for name in part.names)
+                else:
+                    self.assertIsInstance(part, ast.Expr, place)
+                    self.assertIsInstance(part.value, ast.Constant, place)
+            self.assertEqual(len(bound), len(set(bound)), file.name)
+
+    def test_no_local_is_called_like_an_import_or_a_class(self):
+        for file, tree in self.trees.items():
+            taken = {name.name for part in tree.body if isinstance(part, ast.ImportFrom) for name in part.names}
+            taken |= {part.name for part in tree.body if isinstance(part, ast.ClassDef)}
+            for node in ast.walk(tree):
+                place = f"{file.name}:{getattr(node, 'lineno', 0)}"
+                if isinstance(node, ast.arg):
+                    self.assertNotIn(node.arg, taken, place)
+                if isinstance(node, ast.Name) and isinstance(node.ctx, ast.Store):
+                    self.assertNotIn(node.id, taken, place)
+
+    def test_every_import_is_used(self):
+        for file, tree in self.trees.items():
+            used = {node.id for node in ast.walk(tree) if isinstance(node, ast.Name)}
+            for part in tree.body:
+                if isinstance(part, ast.ImportFrom):
+                    for name in part.names:
+                        self.assertIn(name.name, used, file.name)
+
+    def test_values_are_given_through_a_local_name(self):
+        for place, node in self.nodes():
+            if isinstance(node, ast.Attribute) and isinstance(node.ctx, ast.Store):
+                self.assertIsInstance(node.value, ast.Name, place)
+
+    def test_calls(self):
+        keywords = {"sorted": ("key", "reverse"), "min": ("key", "default"), "max": ("key", "default"),
+                    "sum": ("start",), "enumerate": ("start",), "zip": ("strict",)}
+        for place, node in self.nodes():
+            if isinstance(node, ast.Call):
+                name = node.func.id if isinstance(node.func, ast.Name) else None
+                for keyword in node.keywords:
+                    self.assertIn(keyword.arg, keywords.get(name, ()), place)
+
+    def test_errors_are_taken_by_name(self):
+        own = [node.name for node in ast.walk(self.trees[PACKAGE / "errors.py"]) if isinstance(node, ast.ClassDef)]
+        for place, node in self.nodes():
+            if isinstance(node, ast.ExceptHandler):
+                self.assertIsInstance(node.type, ast.Name, place)
+                self.assertIn(node.type.id, own + ["KeyError", "ZeroDivisionError"], place)
+            if isinstance(node, ast.FormattedValue):
+                self.assertIsInstance(node.value, ast.Name, place)
+                self.assertIsNone(node.format_spec, place)
+
+    def test_what_is_walked_is_walked_on_the_spot(self):
+        inside = ("list", "tuple", "dict", "sorted", "sum", "any", "all", "enumerate", "zip", "min", "max")
+        for file, tree in self.trees.items():
+            good = []
+            for node in ast.walk(tree):
+                if isinstance(node, (ast.For, ast.comprehension)):
+                    good.append(node.iter)
+                if isinstance(node, ast.Call) and isinstance(node.func, ast.Name) and node.func.id in inside:
+                    good.extend(node.args if node.func.id == "zip" else node.args[:1])
+            for node in ast.walk(tree):
+                if not isinstance(node, ast.Call):
+                    continue
+                name = node.func.id if isinstance(node.func, ast.Name) else getattr(node.func, "attr", None)
+                if name in ("zip", "enumerate", "reversed", "range", "items", "keys", "values"):
+                    self.assertIn(node, good, f"{file.name}:{node.lineno}")
+
+    def test_sets_are_not_kept(self):
+        for file, tree in self.trees.items():
+            good = []
+            for node in ast.walk(tree):
+                if isinstance(node, ast.Compare):
+                    good.extend([node.left] + node.comparators)
+                if isinstance(node, ast.Call) and isinstance(node.func, ast.Name) and node.func.id in ("sorted", "len"):
+                    good.extend(node.args)
+            for node in ast.walk(tree):
+                self.assertNotIsInstance(node, ast.Set, file.name)
+                if isinstance(node, ast.Call) and isinstance(node.func, ast.Name) and node.func.id == "set":
+                    self.assertIn(node, good, f"{file.name}:{node.lineno}")
+
 
 if __name__ == "__main__":
     unittest.main()

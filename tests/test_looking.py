@@ -262,7 +262,8 @@ class RingsTest(LookingCase):
         self.ring("gate a opens 1 for 1 then b. gate b opens 1 for 1 then a.", "a")
         self.ring("gate b opens 1 for 1 then a. gate a opens 1 for 1 then b.", "b")
         self.ring("lend a of p then b. give b of p then c. fork c by least then x, a.", "a")
-        self.ring("gate a opens 1 for 1 then b. fork b by turns then x, c. give c of p then e. lend e of p then a.", "a")
+        self.ring("gate a opens 1 for 1 then b. fork b by turns then x, c. give c of p then e."
+                  "lend e of p then a.", "a")
 
     def test_with_a_way_or_a_desk_among_them(self):
         self.no_ring("gate a opens 1 for 1 then b. way b takes 1 then a.")
