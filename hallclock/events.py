@@ -70,23 +70,20 @@ class Run:
         return min(turns, default=None)
 
     # When gates open and rests end is looked up anew each time: changes and moves may make it mean nothing.
+    # Whoever stands somewhere between turns stands there since an earlier one, so that is not asked for.
     def gate_turns(self):
         turns = []
         for gate in [told for told in self.hall if has_rule(told, "opens")]:
-            every = self.ground.as_it_is(gate[1])[2][1]
-            for number in self.ground.at(gate[1]):
-                earliest = max(self.clock, self.ground.where(number)[1] + 1)
-                turns.append(multiple_from(earliest, every))
+            if self.ground.at(gate[1]) != []:
+                every = self.ground.as_it_is(gate[1])[2][1]
+                turns.append(multiple_from(self.clock, every))
         return turns
 
     def rest_turns(self):
         turns = []
         for desk in of_sort(self.hall, "desk"):
-            for number in self.ground.at(desk[1]):
-                stand = self.ground.where(number)
-                if stand[2] is None:
-                    earliest = max(self.clock, stand[1] + 1)
-                    turns.extend([rest[1] for rest in desk[5] if rest[1] >= earliest])
+            if any([self.ground.where(number)[2] is None for number in self.ground.at(desk[1])]):
+                turns.extend([rest[1] for rest in desk[5] if rest[1] >= self.clock])
         return turns
 
     def changed_amid(self):

@@ -27,8 +27,12 @@ def is_row(word, signs, most):
     return 1 <= len(word) <= most and row_end(word, 0, signs) == len(word)
 
 
+def is_number_upto(word, most):
+    return is_row(word, FIGURES, most) and (word == "0" or word[0] != "0")
+
+
 def is_number(word):
-    return is_row(word, FIGURES, MOST_FIGURES) and (word == "0" or word[0] != "0")
+    return is_number_upto(word, MOST_FIGURES)
 
 
 def is_name(word):
