@@ -121,6 +121,26 @@ class LanguageTest(unittest.TestCase):
             if isinstance(node, ast.Attribute):
                 self.assertTrue(node.attr in methods | values or node.attr in OWN_METHODS, f"{place} {node.attr}")
 
+    def test_methods_and_values_are_not_called_like_pythons_own(self):
+        taken = {name for kind in (str, int, list, tuple, dict, set, bytes) for name in dir(kind)} - set(SPECIAL)
+        for place, node in self.nodes():
+            if isinstance(node, ast.ClassDef):
+                self.assertEqual([part.name for part in node.body if getattr(part, "name", None) in taken], [], place)
+            if isinstance(node, ast.Attribute) and isinstance(node.ctx, ast.Store):
+                self.assertNotIn(node.attr, taken, place)
+
+    def test_what_a_loop_walks_is_not_changed_in_it(self):
+        changing = ("append", "clear", "extend", "insert", "pop", "remove", "reverse", "setdefault", "update")
+        for place, node in self.nodes():
+            if not isinstance(node, ast.For):
+                continue
+            walked = ast.unparse(node.iter)
+            for part in ast.walk(ast.Module(node.body, [])):
+                if isinstance(part, ast.Call) and isinstance(part.func, ast.Attribute) and part.func.attr in changing:
+                    self.assertNotEqual(ast.unparse(part.func.value), walked, place)
+                if isinstance(part, ast.Subscript) and isinstance(part.ctx, ast.Store):
+                    self.assertNotEqual(ast.unparse(part.value), walked, place)
+
     def test_the_top_of_a_file_holds_plain_things(self):
         plain = (ast.Constant, ast.Tuple, ast.List, ast.Dict, ast.Load, ast.UnaryOp, ast.USub)
         for file, tree in self.trees.items():
